@@ -1,0 +1,1 @@
+"""Stolenvoices: keys for a fixed number of voices, decided for all plays."""

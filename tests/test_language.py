@@ -1,0 +1,108 @@
+"""The package's form: the rules of LANGUAGE.md, and the interface of DOC.md as far as it landed."""
+
+import ast
+import os
+import re
+import unittest
+
+from tests import language
+
+FOLDER = os.path.join(os.path.dirname(os.path.dirname(os.path.abspath(__file__))), "stolenvoices")
+PLACE, ITSELF = ["self", "place"], ["thing"]
+INTERFACE = {
+    "errors": {
+        "VoiceError": None, "BadMachine": PLACE, "BadPlay": PLACE, "BadState": PLACE,
+        "BadTrace": PLACE, "BadText": PLACE, "BadEvent": ["self", "event"],
+        "BadKey": ["self", "key"], "BadBoard": ["self", "many"], "BadQuestion": None,
+        "Missing": ["self", "number"],
+    },
+    "machines": {
+        "is_key": ITSELF, "need_machine": ITSELF, "is_machine": ITSELF,
+        "with_voices": ["machine", "voices"], "mirrored": ["machine"],
+    },
+    "states": {
+        "need_state": ["machine", "thing"], "is_state": ["machine", "thing"],
+        "sound": ["machine", "state"],
+    },
+}
+BAD_CODE = {
+    "L10": ["x = 1\t\n", "x = 1  #" + "-" * 120, "x = 0\n" * 400,
+            "def go():\n" + "    pass\n" * 40],
+    "L14": ["# \u00e9\n"],
+    "L3": ["print(1)\n", "a, b = 1, 2\n", "a = b = 1\n", "x = len('a')\n", "if True:\n    pass\n"],
+    "L2": ["from os import path\n", "from . import plays\n", "from stolenvoices.none import a\n",
+           "from math import gcd as g\n", "x = 1\nfrom math import gcd\n", "from math import pi\n"],
+    "L6": ["import math\n", "def go():\n    global x\n", "def go(a):\n    return a / 2\n"],
+    "L5": ["@made\nclass A:\n    pass\n"],
+    "L4": ["@made\ndef go():\n    pass\n"],
+    "L7": ["x = 1.5\n"],
+    "L27": ["x = 'a%b'\n", "def go(x):\n    return 1if x else 2\n"],
+    "L17": ["def go(a):\n    return a.type\n", "x = 'a typing b'\n"],
+    "L8": ["def go(a):\n    return chr(a)\n", "def go(a):\n    return round(a)\n",
+           "def __go(a):\n    return a\n"],
+    "L12": ["def _law_(a):\n    return a\n"],
+    "L15": ["def go(id):\n    return id\n", "def hash(a):\n    return a\n", "x = 1\nx = 2\n",
+            "class A:\n    pass\n\n\ndef go(A):\n    return A\n"],
+    "L19": ["def go():\n    try:\n        pass\n    except Exception:\n        pass\n",
+            "def go(a):\n    raise a\n"],
+    "L20": ["def go(a, b):\n    return a is b\n"],
+    "L25": ["def go(a):\n    return a.format(1)\n"],
+}
+
+
+def sources():
+    """The sources of the package by the names of their modules."""
+    found = {}
+    for name in sorted(os.listdir(FOLDER)):
+        if name != "__pycache__":
+            with open(os.path.join(FOLDER, name), encoding="utf-8") as file:
+                found["stolenvoices." + name.removesuffix(".py")] = file.read()
+    return found
+
+
+class Language(unittest.TestCase):
+
+    def test_the_folder_holds_only_plain_python_files(self):
+        names = [name for name in os.listdir(FOLDER) if name != "__pycache__"]
+        self.assertIn("__init__.py", names)
+        for name in names:
+            self.assertTrue(re.fullmatch("[a-z0-9_]+[.]py", name), name)
+
+    def test_each_file_keeps_the_rules(self):
+        texts = sources()
+        for name, text in texts.items():
+            self.assertEqual(language.faults(text, texts), [], name)
+
+    def test_no_two_files_import_from_each_other(self):
+        self.assertEqual(language.cycles(sources()), [])
+        self.assertEqual(language.cycles({"a": "from b import x\n", "b": "from a import y\n"}),
+                         ["a", "b"])
+
+    def test_bad_code_is_found(self):
+        for rule, codes in BAD_CODE.items():
+            for code in codes:
+                found = language.faults(code)
+                self.assertTrue([row for row in found if re.match(rule + r"\b", row)], (rule, code))
+
+
+class Interface(unittest.TestCase):
+
+    def test_each_is_defined_in_its_file_with_its_arguments(self):
+        texts = sources()
+        for module, wanted in INTERFACE.items():
+            body = ast.parse(texts["stolenvoices." + module]).body
+            defined = {node.name: node for node in body if hasattr(node, "name")}
+            for name, arguments in wanted.items():
+                self.assertEqual(self.arguments(defined[name]), arguments, name)
+
+    def arguments(self, node):
+        """The names of the parameters of a function or an __init__, None if there is none."""
+        if isinstance(node, ast.ClassDef):
+            made = [item for item in node.body if getattr(item, "name", "") == "__init__"]
+            return self.arguments(made[0]) if made else None
+        self.assertFalse(node.args.kwonlyargs or node.args.posonlyargs or node.args.defaults)
+        return [item.arg for item in node.args.args]
+
+
+if __name__ == "__main__":
+    unittest.main()
