@@ -19,6 +19,16 @@ def loud_keys(row):
     return [key for key, mark in row if mark != "waits"]
 
 
+def down_keys(row):
+    """The list of the KEYs of ROW that are down, in the order of ROW."""
+    return [key for key, mark in row if mark != "kept"]
+
+
+def sound_of(state):
+    """The SOUND of what is known to be a STATE."""
+    return tuple(sorted(loud_keys(state[1])))
+
+
 def can_be_next(voices, pedal, before, thing):
     """Whether the thing, of any kind, can follow in ROW behind the pairs before it."""
     if not is_pair(thing):
@@ -76,5 +86,4 @@ def is_state(machine, thing):
 
 def sound(machine, state):
     """The SOUND: the ascending tuple of the KEYs of the LOUD pairs."""
-    _, row = need_state(machine, state)
-    return tuple(sorted(loud_keys(row)))
+    return sound_of(need_state(machine, state))

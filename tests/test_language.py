@@ -9,6 +9,8 @@ from tests import language
 
 FOLDER = os.path.join(os.path.dirname(os.path.dirname(os.path.abspath(__file__))), "stolenvoices")
 PLACE, ITSELF = ["self", "place"], ["thing"]
+PLAYED = ["machine", "play"]
+BOARD = ["keys", "*", "pedal=False"]
 INTERFACE = {
     "errors": {
         "VoiceError": None, "BadMachine": PLACE, "BadPlay": PLACE, "BadState": PLACE,
@@ -23,6 +25,18 @@ INTERFACE = {
     "states": {
         "need_state": ["machine", "thing"], "is_state": ["machine", "thing"],
         "sound": ["machine", "state"],
+    },
+    "steps": {
+        "step": ["machine", "state", "event"], "deeds": ["machine", "state", "event"],
+        "victim": ["machine", "state", "key"],
+    },
+    "plays": {
+        "need_play": ITSELF, "is_play": ITSELF, "need": ["play"], "trace": PLAYED,
+        "last_state": PLAYED, "cuts": PLAYED,
+    },
+    "boards": {
+        "need_board": ["keys", "pedal"], "events_at": ["state", *BOARD],
+        "reached": ["machine", *BOARD],
     },
 }
 BAD_CODE = {
@@ -100,8 +114,11 @@ class Interface(unittest.TestCase):
         if isinstance(node, ast.ClassDef):
             made = [item for item in node.body if getattr(item, "name", "") == "__init__"]
             return self.arguments(made[0]) if made else None
-        self.assertFalse(node.args.kwonlyargs or node.args.posonlyargs or node.args.defaults)
-        return [item.arg for item in node.args.args]
+        told = node.args
+        self.assertFalse(told.posonlyargs or told.defaults or told.vararg or told.kwarg)
+        named = [f"{item.arg}={ast.unparse(default)}" for item, default in
+                 zip(told.kwonlyargs, told.kw_defaults)]
+        return [item.arg for item in told.args] + (["*", *named] if named else [])
 
 
 if __name__ == "__main__":

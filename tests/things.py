@@ -45,3 +45,12 @@ NO_INTEGERS = OTHER_KINDS + ["", "0", "1", (), (1,)]
 def tell(thing):
     """A text for the thing, which may not be shown itself."""
     return thing.__class__.__name__
+
+
+def exchanged(thing, others):
+    """Each tuple that comes of one if it, or what stands in it at any depth, is another thing."""
+    yield from others
+    if isinstance(thing, tuple):
+        for number, item in enumerate(thing):
+            for new in exchanged(item, others):
+                yield (*thing[:number], new, *thing[number + 1:])
