@@ -60,7 +60,8 @@ def trace(machine, play):
 
 def last_state(machine, play):
     """The STATE behind a PLAY."""
-    return [START, *states_behind(need_machine(machine), need_play(play))][-1]
+    found = states_behind(need_machine(machine), need_play(play))
+    return found[-1] if found else START
 
 
 def cuts(machine, play):

@@ -81,12 +81,13 @@ def go_down(machine, row, key):
 def come_back(machine, row, done):
     """ROW behind all RETURNs, and all DEEDS; done: the tuple of those ahead of them."""
     voices, _, returning = machine
+    if returning == "none":
+        return row, done
     waiting = [key for key, mark in row if mark == "waits"]
     free = voices - (len(row) - len(waiting))
-    if returning == "none" or free == 0 or not waiting:
-        return row, done
+    many = min(free, len(waiting))
     back = []
-    for _ in range(min(free, len(waiting))):
+    for _ in range(many):
         key = chosen(waiting, returning)
         waiting.remove(key)
         back.append(key)

@@ -11,6 +11,33 @@ def draw_machine(chance, voices=None, filters=None):
     return voices, criteria, chance.choice(RETURNS)
 
 
+def draw_near(chance, machine):
+    """A MACHINE that differs little from another one, or not at all."""
+    voices, criteria, returning = machine
+    filters = list(criteria[:-1])
+    kind = chance.randrange(5)
+    if kind == 0:
+        return voices, criteria, chance.choice(RETURNS)
+    if kind == 1:
+        return voices, (*filters, chance.choice(ENDS)), returning
+    if kind == 2:
+        return chance.randint(max(1, voices - 1), min(8, voices + 1)), criteria, returning
+    if kind == 3 and len(filters) > 1:
+        filters[0], filters[-1] = filters[-1], filters[0]
+    elif filters and chance.random() < 0.7:
+        filters.remove(chance.choice(filters))
+    elif len(filters) < 5:
+        filters.append(chance.choice([word for word in FILTERS if word not in filters]))
+    return voices, (*filters, criteria[-1]), returning
+
+
+def draw_pairs(chance, many):
+    """So many pairs of MACHINEs, with few VOICES, half of them with little difference."""
+    for number in range(many):
+        one = draw_machine(chance, chance.randint(1, 4), chance.randint(0, 3))
+        yield one, draw_near(chance, one) if number % 2 else draw_machine(chance, chance.randint(1, 4))
+
+
 def draw_state(chance, machine, keys=range(88)):
     """A STATE by the form that [4] tells, often one to which no PLAY leads."""
     voices, _, returning = machine

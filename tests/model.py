@@ -10,6 +10,7 @@ START = (False, ())
 FILTERS = ("kept", "inner", "notlow", "nothigh", "below", "above", "under", "over")
 ENDS = ("eldest", "latest", "lowest", "highest", "refuse")
 RETURNS = ("none", "eldest", "latest", "lowest", "highest")
+BOARDS = [(keys, False) for keys in (1, 2, 3, 4)] + [(keys, True) for keys in (1, 2, 3)]
 PURE = ((("eldest",), "latest"), (("refuse",), "eldest"), (("under", "lowest"), "highest"),
         (("over", "highest"), "lowest"))
 
@@ -151,6 +152,17 @@ def events_in(state, keys, pedal):
     return found + ([("lift",) if state[0] else ("press",)] if pedal else [])
 
 
+def is_board_play(play, keys, pedal):
+    """Whether a tuple is a PLAY of the BOARD."""
+    state = START
+    for event in play:
+        if event not in events_in(state, keys, pedal):
+            return False
+        # With so many VOICES only the KEYs and the pedal count.
+        state, _ = after((88, ("refuse",), "none"), state, event)
+    return True
+
+
 def all_states(machine, keys):
     """All STATEs of a MACHINE, by the form that [4] tells, with KEYs below a number."""
     voices, _, returning = machine
@@ -177,6 +189,20 @@ def distances(machines, keys, pedal):
                 far[new] = far[states] + 1
                 queue.append(new)
     return far
+
+
+def nearest(far, wanted):
+    """How far the nearest tuple of STATEs is of those that are wanted, or None."""
+    return min((many for states, many in far.items() if wanted(*states)), default=None)
+
+
+def sounds_differ(one, other):
+    return sound_in(one) != sound_in(other)
+
+
+def key_lacks(one, other):
+    """Whether some KEY of the other SOUND is not in that of the one STATE."""
+    return not set(sound_in(other)) <= set(sound_in(one))
 
 
 def all_plays(keys, pedal, length):

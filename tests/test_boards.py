@@ -13,7 +13,6 @@ from tests import model
 from tests.draws import draw_machine, draw_state
 from tests.things import NO_INTEGERS, NO_TUPLES, tell
 
-BOARDS = [(keys, False) for keys in (1, 2, 3, 4)] + [(keys, True) for keys in (1, 2, 3)]
 ONE = (1, ("eldest",), "none")
 NO_PEDALS = [thing for thing in NO_TUPLES if thing is not True and thing is not False] + [(), (True,)]
 NO_BOARDS = [(keys, pedal) for keys in (0, -1, 5, 88, 10 ** 999, -10 ** 999, *NO_INTEGERS)
@@ -34,7 +33,7 @@ class BoardCase(unittest.TestCase):
 class Boards(BoardCase):
 
     def test_boards(self):
-        for keys, pedal in BOARDS:
+        for keys, pedal in model.BOARDS:
             self.assertIsNone(need_board(keys, pedal))
             self.assertIsNone(need_board(pedal=pedal, keys=keys))
 
@@ -52,7 +51,7 @@ class Boards(BoardCase):
     def test_the_machine_is_looked_at_first(self):
         bad = [((0, ("eldest",), "none"), ("voices",)), ((1, ("lowest", "lowest"), "none"),
                ("criteria", 0)), ((1, ("eldest",), "refuse"), ("return",)), (None, ()), ([], ())]
-        for (machine, place), (keys, pedal) in product(bad, [*BOARDS, *NO_BOARDS]):
+        for (machine, place), (keys, pedal) in product(bad, [*model.BOARDS, *NO_BOARDS]):
             with self.assertRaises(BadMachine) as caught:
                 reached(machine, keys, pedal=pedal)
             self.assertEqual(caught.exception.place, place)
@@ -83,7 +82,7 @@ class Events(BoardCase):
         chance = Random(1)
         for _ in range(400):
             state = draw_state(chance, draw_machine(chance), range(6))
-            for keys, pedal in BOARDS:
+            for keys, pedal in model.BOARDS:
                 found = events_at(keys=keys, state=state, pedal=pedal)
                 self.assertEqual(found, sorted(model.events_in(state, keys, pedal)))
                 self.assertIsInstance(found, list)
@@ -111,7 +110,7 @@ class Reached(BoardCase):
 
     def test_against_a_plain_search(self):
         chance = Random(2)
-        for (keys, pedal), voices in product(BOARDS, range(1, 6)):
+        for (keys, pedal), voices in product(model.BOARDS, range(1, 6)):
             for _ in range(4):
                 machine = draw_machine(chance, voices)
                 wanted = sorted(states for states, in model.distances([machine], keys, pedal))
@@ -119,7 +118,7 @@ class Reached(BoardCase):
 
     def test_closed_and_ascending(self):
         chance = Random(3)
-        for keys, pedal in BOARDS:
+        for keys, pedal in model.BOARDS:
             machine = draw_machine(chance, chance.randint(1, 3))
             found = reached(machine, keys=keys, pedal=pedal)
             self.assertIsInstance(found, tuple)

@@ -11,6 +11,7 @@ FOLDER = os.path.join(os.path.dirname(os.path.dirname(os.path.abspath(__file__))
 PLACE, ITSELF = ["self", "place"], ["thing"]
 PLAYED = ["machine", "play"]
 BOARD = ["keys", "*", "pedal=False"]
+PAIR = ["one", "other", *BOARD]
 INTERFACE = {
     "errors": {
         "VoiceError": None, "BadMachine": PLACE, "BadPlay": PLACE, "BadState": PLACE,
@@ -37,6 +38,17 @@ INTERFACE = {
     "boards": {
         "need_board": ["keys", "pedal"], "events_at": ["state", *BOARD],
         "reached": ["machine", *BOARD],
+    },
+    "deciding": {
+        "alike": PAIR, "covers": PAIR, "parting": PAIR, "gap": PAIR, "grows": ["machine", *BOARD],
+    },
+    "papers": {"paper": PAIR, "is_paper": ["one", "other", "thing", *BOARD]},
+    "cutting": {
+        "cut_play": ["machine", "key", *BOARD], "silent_play": ["machine", "key", *BOARD],
+        "sure_keys": ["machine", *BOARD],
+    },
+    "lists": {
+        "needless": ["machine", *BOARD], "lean": ["machine", *BOARD], "groups": ["machines", *BOARD],
     },
 }
 BAD_CODE = {
