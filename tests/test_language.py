@@ -12,6 +12,8 @@ PLACE, ITSELF = ["self", "place"], ["thing"]
 PLAYED = ["machine", "play"]
 BOARD = ["keys", "*", "pedal=False"]
 PAIR = ["one", "other", *BOARD]
+ALONE = ["self"]
+PROPERTY = ["property", "self"]
 INTERFACE = {
     "errors": {
         "VoiceError": None, "BadMachine": PLACE, "BadPlay": PLACE, "BadState": PLACE,
@@ -49,6 +51,28 @@ INTERFACE = {
     },
     "lists": {
         "needless": ["machine", *BOARD], "lean": ["machine", *BOARD], "groups": ["machines", *BOARD],
+    },
+    "finding": {
+        "need_trace": ["play", "thing"], "fitting": ["machines", "play", "heard"],
+        "asking": ["machines", *BOARD],
+    },
+    "players": {
+        "Player": {
+            "__init__": ["self", "machine", "play=()"], "machine": PROPERTY, "state": PROPERTY,
+            "sound": PROPERTY, "pedal": PROPERTY, "__call__": ["self", "event"],
+            "__iadd__": ["self", "other"], "__getitem__": ["self", "at"],
+            "__setitem__": ["self", "at", "worth"], "__contains__": ["self", "x"], "__len__": ALONE,
+            "__eq__": ["self", "other"], "events": ALONE, "undo": ALONE, "trial": ALONE,
+        },
+        "under": ["manager", "deed"],
+    },
+    "sheets": {
+        "Sheet": {
+            "__init__": ["self", "machine", "play=()"], "play": PROPERTY, "machine": PROPERTY,
+            "use": ["self", "machine"], "heard": ALONE, "need": ALONE, "__getitem__": ["self", "at"],
+            "__setitem__": ["self", "at", "worth"], "put": ["self", "n", "event"], "take": ["self", "n"],
+            "__len__": ALONE, "undo": ALONE,
+        },
     },
 }
 BAD_CODE = {
@@ -116,21 +140,25 @@ class Interface(unittest.TestCase):
     def test_each_is_defined_in_its_file_with_its_arguments(self):
         texts = sources()
         for module, wanted in INTERFACE.items():
-            body = ast.parse(texts["stolenvoices." + module]).body
-            defined = {node.name: node for node in body if hasattr(node, "name")}
-            for name, arguments in wanted.items():
-                self.assertEqual(self.arguments(defined[name]), arguments, name)
+            self.defined(ast.parse(texts["stolenvoices." + module]).body, wanted)
+
+    def defined(self, body, wanted):
+        """The rows define all that is wanted, each method in the class itself."""
+        nodes = {node.name: node for node in body if hasattr(node, "name")}
+        for name, arguments in wanted.items():
+            with self.subTest(name):
+                if isinstance(arguments, dict):
+                    self.defined(nodes[name].body, arguments)
+                else:
+                    self.assertEqual(self.arguments(nodes[name]), arguments)
 
     def arguments(self, node):
         """The names of the parameters of a function or an __init__, None if there is none."""
         if isinstance(node, ast.ClassDef):
             made = [item for item in node.body if getattr(item, "name", "") == "__init__"]
             return self.arguments(made[0]) if made else None
-        told = node.args
-        self.assertFalse(told.posonlyargs or told.defaults or told.vararg or told.kwarg)
-        named = [f"{item.arg}={ast.unparse(default)}" for item, default in
-                 zip(told.kwonlyargs, told.kw_defaults)]
-        return [item.arg for item in told.args] + (["*", *named] if named else [])
+        decorators = [ast.unparse(item) for item in node.decorator_list]
+        return decorators + ast.unparse(node.args).split(", ")
 
 
 if __name__ == "__main__":

@@ -3,9 +3,10 @@
 import unittest
 from itertools import combinations
 
-from stolenvoices import boards, cutting, deciding, lists, papers, plays, states, steps
+from stolenvoices import (
+    boards, cutting, deciding, finding, lists, papers, players, plays, sheets, states, steps)
 from stolenvoices.errors import (
-    BadBoard, BadEvent, BadKey, BadMachine, BadPlay, BadQuestion, BadState)
+    BadBoard, BadEvent, BadKey, BadMachine, BadPlay, BadQuestion, BadState, BadTrace)
 from stolenvoices.states import START
 
 GOOD = (1, ("eldest",), "none")
@@ -21,6 +22,7 @@ PEDAL = (True, [(None, BadBoard, 3), (1, BadBoard, 3)])
 BOARD_KEY = (1, [(3, BadKey, 3), (-1, BadKey, -1), (None, BadKey, None)])
 MACHINES = ((GOOD,), [([], BadQuestion, None), ((None,) * 21, BadQuestion, None),
                       ((GOOD, (2, (), "none"), None), BadMachine, ("criteria",))])
+HEARD = ((), [([], BadTrace, ()), (((),), BadTrace, ()), (None, BadTrace, ())])
 FULL = (GOOD, [((8, ("eldest",), "none"), BadQuestion, None)])
 # The arguments of each function in the order in which they are looked at.
 BOARD = (("keys", KEYS), ("pedal", PEDAL))
@@ -42,9 +44,13 @@ ORDERS = [
     (papers.paper, PAIR),
     (cutting.cut_play, CUT), (cutting.silent_play, CUT), (cutting.sure_keys, LISTED),
     (lists.needless, LISTED), (lists.lean, LISTED), (lists.groups, (("machines", MACHINES), *BOARD)),
+    (finding.need_trace, (("play", PLAY), ("thing", HEARD))),
+    (finding.fitting, (("machines", MACHINES), ("play", PLAY), ("heard", HEARD))),
+    (finding.asking, (("machines", MACHINES), *BOARD)),
+    (players.Player, PLAYED), (sheets.Sheet, PLAYED),
 ]
-ATTRIBUTES = {BadMachine: "place", BadState: "place", BadPlay: "place", BadEvent: "event",
-              BadKey: "key", BadBoard: "many"}
+ATTRIBUTES = {BadMachine: "place", BadState: "place", BadPlay: "place", BadTrace: "place",
+              BadEvent: "event", BadKey: "key", BadBoard: "many"}
 
 
 class Orders(unittest.TestCase):
