@@ -5,15 +5,21 @@ the pairs (EVENT, node behind it) of a node.
 """
 
 
-def spread(ways, nodes, nexts):
-    """The list of the new nodes one EVENT behind these; ways gets the way to each."""
-    found = []
-    for node in nodes:
+def found_from(ways, start, nexts, wanted):
+    """The first node behind the start that is wanted, or None; ways gets the way to each node."""
+    ways[start] = None
+    nodes = [start]
+    number = 0
+    while number < len(nodes):
+        node = nodes[number]
         for event, after in nexts(node):
             if after not in ways:
                 ways[after] = (node, event)
-                found.append(after)
-    return found
+                if wanted(after):
+                    return after
+                nodes.append(after)
+        number += 1
+    return None
 
 
 def play_to(ways, node):
@@ -29,20 +35,15 @@ def play_to(ways, node):
 
 def shortest(start, nexts, wanted):
     """A PLAY with as few EVENTs as any to a node that is wanted, or None."""
-    ways = {start: None}
-    nodes = [start]
-    while nodes:
-        for node in nodes:
-            if wanted(node):
-                return play_to(ways, node)
-        nodes = spread(ways, nodes, nexts)
-    return None
+    if wanted(start):
+        return ()
+    ways = {}
+    found = found_from(ways, start, nexts, wanted)
+    return None if found is None else play_to(ways, found)
 
 
 def all_nodes(start, nexts):
     """The list of all nodes to which PLAYs lead."""
-    ways = {start: None}
-    nodes = [start]
-    while nodes:
-        nodes = spread(ways, nodes, nexts)
+    ways = {}
+    found_from(ways, start, nexts, lambda node: False)
     return list(ways)

@@ -24,6 +24,9 @@ METHODS = set(
 DOUBLE = set(
     "init eq repr str len enter exit call iter lt le gt ge ne add sub mul floordiv mod and or xor"
     " iadd isub imul contains getitem setitem bool neg".split())
+# These may change nothing, and call nothing that does.
+STILL = {f"__{name}__" for name in DOUBLE - set("init enter exit call iter iadd isub imul setitem".split())}
+CHANGING = set("append clear extend insert pop remove reverse setdefault update add discard sort".split())
 LIBRARY = {
     "heapq": {"heappush", "heappop", "heapify", "heapreplace", "heappushpop"},
     "math": {"gcd", "lcm", "isqrt", "comb", "perm", "factorial"},
@@ -46,7 +49,7 @@ def faults(source, others=None):
     found = text_faults(source) + module_faults(tree) + import_faults(tree, others or {})
     for node in ast.walk(tree):
         found += [f"{rule} line {getattr(node, 'lineno', 0)}" for rule in node_faults(node)]
-    return found + name_faults(tree) + warned(source)
+    return found + name_faults(tree, others or {}) + class_faults(tree, others or {}) + warned(source)
 
 
 def text_faults(source):
@@ -176,12 +179,12 @@ def own_methods(tree):
             for item in node.body if isinstance(item, ast.FunctionDef)}
 
 
-def name_faults(tree):
+def name_faults(tree, others):
     """Rules about names: L8, L12, L15, L17, L25."""
     top = dict(module_names(tree))
     closed = {name for name, imported in top.items() if imported}
     closed |= {node.name for node in tree.body if isinstance(node, ast.ClassDef)}
-    methods = own_methods(tree)
+    methods = own_methods(tree).union(*[own_methods(ast.parse(text)) for text in others.values()])
     found = []
     for name, line, kind in all_names(tree):
         inner = name[2:-2]
@@ -200,6 +203,59 @@ def name_faults(tree):
         if kind == "called" and name not in METHODS | methods:
             found.append(f"L25 {name} line {line}")
     return found
+
+
+def class_faults(tree, others):
+    """Rules about what classes define: L5, L6, L28."""
+    functions = {}
+    for module in [tree, *[ast.parse(text) for text in others.values()]]:
+        for node in module.body:
+            if isinstance(node, ast.FunctionDef):
+                functions.setdefault(node.name, []).append(node)
+    found = []
+    for node in ast.walk(tree):
+        if isinstance(node, ast.ClassDef):
+            methods = {item.name: item for item in node.body if isinstance(item, ast.FunctionDef)}
+            if "__getitem__" in methods and "__iter__" not in methods:
+                found.append(f"L5 line {node.lineno}")
+            for method in methods.values():
+                found += [f"{rule} line {method.lineno}" for rule in method_faults(method, functions)]
+    return found
+
+
+def method_faults(method, functions):
+    decorators = [ast.unparse(item) for item in method.decorator_list]
+    if method.name in STILL or "property" in decorators:
+        reached, ahead = {}, [method]
+        while ahead:
+            node = ahead.pop()
+            reached[id(node)] = node
+            called = {item.func.id for item in ast.walk(node)
+                      if isinstance(item, ast.Call) and isinstance(item.func, ast.Name)}
+            ahead += [other for name in called for other in functions.get(name, []) if id(other) not in reached]
+        if any(changes(node) for node in reached.values()):
+            yield "L5"
+    if method.name in STILL | {"__setitem__"} and "self(" in ast.unparse(method):
+        yield "L5"
+    if method.name == "__exit__" and not all(isinstance(row, (ast.Assign, ast.Pass)) or is_docstring(row)
+                                             for row in method.body):
+        yield "L6"
+    if method.name == "__len__":
+        for item in ast.walk(method):
+            if isinstance(item, ast.Return) and not ast.unparse(item).startswith("return len("):
+                yield "L28"
+
+
+def changes(function):
+    """Whether a function changes anything but its own variables."""
+    for node in ast.walk(function):
+        if isinstance(node, (ast.AugAssign, ast.Delete)):
+            return True
+        if isinstance(node, (ast.Attribute, ast.Subscript)) and isinstance(node.ctx, ast.Store):
+            return True
+        if isinstance(node, ast.Call) and isinstance(node.func, ast.Attribute) and node.func.attr in CHANGING:
+            return True
+    return False
 
 
 def all_names(tree):

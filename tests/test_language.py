@@ -12,6 +12,7 @@ PLACE, ITSELF = ["self", "place"], ["thing"]
 PLAYED = ["machine", "play"]
 BOARD = ["keys", "*", "pedal=False"]
 PAIR = ["one", "other", *BOARD]
+SEATED = ["machine", "way", "play"]
 ALONE = ["self"]
 PROPERTY = ["property", "self"]
 INTERFACE = {
@@ -74,6 +75,21 @@ INTERFACE = {
             "__len__": ALONE, "undo": ALONE,
         },
     },
+    "texts": {
+        "machine_text": ["machine"], "play_text": ["play"], "sound_text": ["keys"],
+        "read_machine": ["text"], "read_play": ["text"],
+    },
+    "desk": {"Desk": {"__init__": ["self", "text"], "say": ["self", "line"]}},
+    "seats": {
+        "need_way": ITSELF, "seatings": SEATED, "numbers_used": SEATED, "voice_of": [*SEATED, "key"],
+        "seat_alike": ["machine", *PAIR], "seat_parting": ["machine", *PAIR],
+        "numbers_had": ["machine", "way", "key", *BOARD],
+    },
+    "chains": {
+        "need_chain": ITSELF, "chain_trace": ["chain", "play"], "chain_states": ["chain", "play"],
+        "chain_alike": ["one", "other", "keys"], "chain_parting": ["one", "other", "keys"],
+        "splits": ["machine", "n", "keys"],
+    },
 }
 BAD_CODE = {
     "L10": ["x = 1\t\n", "x = 1  #" + "-" * 120, "x = 0\n" * 400,
@@ -82,8 +98,17 @@ BAD_CODE = {
     "L3": ["print(1)\n", "a, b = 1, 2\n", "a = b = 1\n", "x = len('a')\n", "if True:\n    pass\n"],
     "L2": ["from os import path\n", "from . import plays\n", "from stolenvoices.none import a\n",
            "from math import gcd as g\n", "x = 1\nfrom math import gcd\n", "from math import pi\n"],
-    "L6": ["import math\n", "def go():\n    global x\n", "def go(a):\n    return a / 2\n"],
-    "L5": ["@made\nclass A:\n    pass\n"],
+    "L6": ["class A:\n    def __exit__(self, *told):\n        self.go()\n", "import math\n",
+           "def go():\n    global x\n", "def go(a):\n    return a / 2\n"],
+    "L5": ["@made\nclass A:\n    pass\n",
+           "class A:\n    def __getitem__(self, at):\n        return at\n",
+           "class A:\n    def __len__(self):\n        self.x = 1\n        return len(self.x)\n",
+           "class A:\n    @property\n    def x(self):\n        self.rows.append(1)\n        return 1\n",
+           "class A:\n    def __contains__(self, x):\n        x += 1\n        return x\n",
+           "def go(rows):\n    rows.pop()\n    return rows\n\n\ndef do(rows):\n    return go(rows)\n\n\n"
+           "class A:\n    def __eq__(self, other):\n        return do(self.rows)\n",
+           "class A:\n    def __setitem__(self, at, worth):\n        self(at)\n"],
+    "L28": ["class A:\n    def __len__(self):\n        return self.many\n"],
     "L4": ["@made\ndef go():\n    pass\n"],
     "L7": ["x = 1.5\n"],
     "L27": ["x = 'a%b'\n", "def go(x):\n    return 1if x else 2\n"],

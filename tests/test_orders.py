@@ -4,9 +4,10 @@ import unittest
 from itertools import combinations
 
 from stolenvoices import (
-    boards, cutting, deciding, finding, lists, papers, players, plays, sheets, states, steps)
+    boards, chains, cutting, deciding, desk, finding, lists, papers, players, plays, seats, sheets,
+    states, steps, texts)
 from stolenvoices.errors import (
-    BadBoard, BadEvent, BadKey, BadMachine, BadPlay, BadQuestion, BadState, BadTrace)
+    BadBoard, BadEvent, BadKey, BadMachine, BadPlay, BadQuestion, BadState, BadText, BadTrace)
 from stolenvoices.states import START
 
 GOOD = (1, ("eldest",), "none")
@@ -24,6 +25,16 @@ MACHINES = ((GOOD,), [([], BadQuestion, None), ((None,) * 21, BadQuestion, None)
                       ((GOOD, (2, (), "none"), None), BadMachine, ("criteria",))])
 HEARD = ((), [([], BadTrace, ()), (((),), BadTrace, ()), (None, BadTrace, ())])
 FULL = (GOOD, [((8, ("eldest",), "none"), BadQuestion, None)])
+# A text that cannot be read is told ahead of a MACHINE or PLAY that is none.
+TEXT = ("1 eldest : none", [(None, BadText, ()), ("0 kept none", BadText, (2,)),
+                            ("0 eldest : none", BadMachine, ("voices",))])
+PLAY_TEXT = ("d1", [(None, BadText, ()), ("u1 x", BadText, (1,)), ("d88", BadPlay, (0,))])
+WAY = ("own", [("none", BadQuestion, None), (None, BadQuestion, None)])
+CHAIN = ((GOOD,), [((), BadQuestion, None), ((None,) * 4, BadQuestion, None),
+                   ((GOOD, (2, (), "none"), None), BadMachine, ("criteria",))])
+SILENT = ((), [([], BadPlay, ()), ((("press",), ("up", 1)), BadPlay, (1,)), ((("press",),), BadQuestion, None)])
+PART = (1, [(0, BadQuestion, None), (2, BadQuestion, None), (True, BadQuestion, None)])
+TWO = ((2, ("eldest",), "none"), FIRST[1])
 # The arguments of each function in the order in which they are looked at.
 BOARD = (("keys", KEYS), ("pedal", PEDAL))
 PLAYED = (("machine", FIRST), ("play", PLAY))
@@ -31,6 +42,9 @@ STEPPED = (("machine", FIRST), ("state", STATE), ("event", EVENT))
 PAIR = (("one", FIRST), ("other", SECOND), *BOARD)
 CUT = (("machine", FIRST), *BOARD, ("key", BOARD_KEY))
 LISTED = (("machine", FIRST), *BOARD)
+SEATED = (("machine", FIRST), ("way", WAY), ("play", PLAY))
+WAYS = (("machine", FIRST), ("one", WAY), ("other", WAY), *BOARD)
+CHAINS = (("one", CHAIN), ("other", CHAIN), ("keys", KEYS))
 ORDERS = [
     (states.need_state, (("machine", FIRST), ("thing", STATE))),
     (states.sound, (("machine", FIRST), ("state", STATE))),
@@ -48,9 +62,20 @@ ORDERS = [
     (finding.fitting, (("machines", MACHINES), ("play", PLAY), ("heard", HEARD))),
     (finding.asking, (("machines", MACHINES), *BOARD)),
     (players.Player, PLAYED), (sheets.Sheet, PLAYED),
+    (texts.machine_text, (("machine", FIRST),)), (texts.play_text, (("play", PLAY),)),
+    (texts.read_machine, (("text", TEXT),)), (texts.read_play, (("text", PLAY_TEXT),)),
+    (desk.Desk, (("text", TEXT),)),
+    (seats.seatings, SEATED), (seats.numbers_used, SEATED),
+    (seats.voice_of, (*SEATED, ("key", FREE_KEY))),
+    (seats.seat_alike, WAYS), (seats.seat_parting, WAYS),
+    (seats.numbers_had, (("machine", FIRST), ("way", WAY), *BOARD, ("key", BOARD_KEY))),
+    (chains.chain_trace, (("chain", CHAIN), ("play", SILENT))),
+    (chains.chain_states, (("chain", CHAIN), ("play", SILENT))),
+    (chains.chain_alike, CHAINS), (chains.chain_parting, CHAINS),
+    (chains.splits, (("machine", TWO), ("n", PART), ("keys", KEYS))),
 ]
 ATTRIBUTES = {BadMachine: "place", BadState: "place", BadPlay: "place", BadTrace: "place",
-              BadEvent: "event", BadKey: "key", BadBoard: "many"}
+              BadText: "place", BadEvent: "event", BadKey: "key", BadBoard: "many"}
 
 
 class Orders(unittest.TestCase):
